@@ -1,0 +1,1 @@
+"""Monomial ideals and the needs that their generators have in common."""

@@ -1,0 +1,52 @@
+"""The names and arguments that the document's interface lists."""
+
+import importlib
+import inspect
+import unittest
+
+INTERFACE = {
+    "monomials": {
+        "degree_of": ["monomial"],
+        "support_of": ["monomial"],
+        "divides": ["a", "b"],
+        "lcm_of": ["a", "b"],
+        "gcd_of": ["a", "b"],
+        "times": ["a", "b"],
+        "cut": ["a", "b"],
+    },
+    "ideals": {
+        "breach": ["value"],
+        "check_ideal": ["value"],
+        "ideal_of": ["n", "monomials"],
+        "contains": ["ideal", "monomial"],
+        "is_within": ["a", "b"],
+    },
+    "operations": {
+        "sum_of": ["a", "b"],
+        "product_of": ["a", "b"],
+        "meet_of": ["a", "b"],
+        "power_of": ["ideal", "k"],
+        "colon_by": ["ideal", "monomial"],
+        "colon_of": ["a", "b"],
+        "saturated": ["ideal", "variable"],
+        "radical_of": ["ideal"],
+        "permuted": ["ideal", "listing"],
+    },
+}
+
+
+class InterfaceTests(unittest.TestCase):
+
+    def test_functions_are_defined_in_their_files(self):
+        for file, functions in INTERFACE.items():
+            module = importlib.import_module(f"jointneeds.{file}")
+            for name, parameters in functions.items():
+                with self.subTest(file=file, name=name):
+                    function = getattr(module, name)
+                    self.assertTrue(inspect.isfunction(function))
+                    self.assertEqual(function.__module__, f"jointneeds.{file}")
+                    self.assertEqual(list(inspect.signature(function).parameters), parameters)
+
+
+if __name__ == "__main__":
+    unittest.main()
