@@ -94,3 +94,11 @@ def is_plain(value):
     if type(value) is tuple:
         return all(is_plain(entry) for entry in value)
     return value is None or type(value) in (int, str, bool)
+
+
+def limit_raised(test, error, call, *arguments):
+    """Check that a call raises just this error, with the limit 60."""
+    with test.assertRaises(error) as caught:
+        call(*arguments)
+    test.assertIs(type(caught.exception), error)
+    test.assertEqual(caught.exception.limit, 60)

@@ -10,8 +10,7 @@ from jointneeds.operations import (
     colon_by, colon_of, meet_of, permuted, power_of, product_of, radical_of, saturated, sum_of,
 )
 
-from tests.boxes import ideal, placed, plus, stair
-from tests.test_ideals import limit_raised
+from tests.boxes import ideal, limit_raised, placed, plus, stair
 
 
 class SumBoundsTests(unittest.TestCase):

@@ -5,15 +5,7 @@ import unittest
 from jointneeds.errors import TooGreat, TooMany
 from jointneeds.ideals import breach, contains, ideal_of, is_within
 
-from tests.boxes import all_ideals, box, is_plain, lies, stair
-
-
-def limit_raised(test, error, call, *arguments):
-    """Check that a call raises just this error, with the limit 60."""
-    with test.assertRaises(error) as caught:
-        call(*arguments)
-    test.assertIs(type(caught.exception), error)
-    test.assertEqual(caught.exception.limit, 60)
+from tests.boxes import all_ideals, box, is_plain, lies, limit_raised, stair
 
 
 class IdealOfTests(unittest.TestCase):
