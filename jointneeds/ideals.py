@@ -6,6 +6,9 @@ from jointneeds.monomials import has_divisor, is_monomial, is_whole, least_ones
 
 MOST_GENERATORS = 60
 
+SMALL_VARIABLES = 8
+SMALL_GENERATORS = 10
+
 
 def breach(value):
     """None for an ideal, and else the first broken rule and its place."""
@@ -91,3 +94,12 @@ def is_within(a, b):
     """Whether each monomial of a lies in b."""
     _, generators = a
     return all([contains(b, generator) for generator in generators])
+
+
+def want_small(ideal):
+    """Raise TooMany unless an ideal is small."""
+    n, generators = ideal
+    if n > SMALL_VARIABLES:
+        raise TooMany(SMALL_VARIABLES)
+    if len(generators) > SMALL_GENERATORS:
+        raise TooMany(SMALL_GENERATORS)

@@ -1,9 +1,11 @@
 """Helpers that decide about ideals by asking of every monomial of a box.
 
+Of complexes they ask of every set of vertices, of maps of every entry.
 Nothing here uses the program: what it returns is compared with this.
 """
 
-from itertools import product
+from fractions import Fraction
+from itertools import combinations, product
 
 
 def box(n, top):
@@ -102,3 +104,99 @@ def limit_raised(test, error, call, *arguments):
         call(*arguments)
     test.assertIs(type(caught.exception), error)
     test.assertEqual(caught.exception.limit, 60)
+
+
+def error_raised(test, error, told, call, *arguments):
+    """Check that a call raises just this error, with these attributes and no others."""
+    with test.assertRaises(error) as caught:
+        call(*arguments)
+    test.assertIs(type(caught.exception), error)
+    for name, value in told.items():
+        found = getattr(caught.exception, name)
+        test.assertEqual(found, value)
+        test.assertIs(type(found), type(value))
+
+
+def twice(test, call, *arguments):
+    """Check that two calls return the same plain value; return it."""
+    first = call(*arguments)
+    test.assertEqual(first, call(*arguments))
+    test.assertTrue(is_plain(first))
+    return first
+
+
+def variable(n, k):
+    """Variable number k as a monomial in n variables."""
+    return tuple(int(j == k) for j in range(n))
+
+
+def squarefree(n, *supports):
+    """The ideal in n variables of the products of some variables each."""
+    return ideal(n, [tuple(int(k in support) for k in range(n)) for support in supports])
+
+
+def subsets(items):
+    """All ascending tuples of some of the items."""
+    items = sorted(items)
+    return [face for size in range(len(items) + 1) for face in combinations(items, size)]
+
+
+def faces_under(facets):
+    """The set of all faces of a complex."""
+    return {face for facet in facets for face in subsets(facet)}
+
+
+def greatest(faces):
+    """The ascending tuple of those faces that are in no other one."""
+    return tuple(sorted(f for f in faces if not any(set(f) < set(g) for g in faces)))
+
+
+def all_complexes(v):
+    """The facets of all complexes with v vertices."""
+    found = []
+
+    def extend(chosen, rest):
+        found.append(tuple(sorted(chosen)))
+        for k, face in enumerate(rest):
+            if not any(set(f) <= set(face) or set(face) <= set(f) for f in chosen):
+                extend(chosen + [face], rest[k + 1:])
+
+    extend([], subsets(range(v)))
+    return found
+
+
+def rank(rows, prime):
+    """The rank of a list of equally long lists of integers over a field."""
+    rows = [[Fraction(x) if prime == 0 else x % prime for x in row] for row in rows]
+    found = 0
+    for column in range(len(rows[0]) if rows else 0):
+        pivot = next((k for k in range(found, len(rows)) if rows[k][column]), None)
+        if pivot is None:
+            continue
+        rows[found], rows[pivot] = rows[pivot], rows[found]
+        head = rows[found]
+        inverse = 1 / head[column] if prime == 0 else pow(head[column], -1, prime)
+        for k in range(found + 1, len(rows)):
+            factor = rows[k][column] * inverse
+            rows[k] = [x - factor * y for x, y in zip(rows[k], head)]
+            if prime:
+                rows[k] = [x % prime for x in rows[k]]
+        found += 1
+    return found
+
+
+def holes_by_ranks(facets, prime):
+    """The holes of a complex, from the ranks of its whole boundary matrices."""
+    faces = faces_under(facets)
+    if not faces:
+        return ()
+    rows = [sorted(f for f in faces if len(f) == size) for size in range(max(map(len, faces)) + 1)]
+    ranks = [0]
+    for lower, upper in zip(rows, rows[1:]):
+        matrix = []
+        for face in upper:
+            entries = {face[:k] + face[k + 1:]: (-1) ** k for k in range(len(face))}
+            matrix.append([entries.get(part, 0) for part in lower])
+        ranks.append(rank(matrix, prime))
+    ranks.append(0)
+    return tuple(len(row) - ranks[k] - ranks[k + 1] for k, row in enumerate(rows))

@@ -32,6 +32,33 @@ INTERFACE = {
         "radical_of": ["ideal"],
         "permuted": ["ideal", "listing"],
     },
+    "texts": {
+        "written": ["ideal"],
+        "read_ideal": ["text"],
+    },
+    "components": {
+        "components": ["ideal"],
+        "ideal_of_components": ["n", "parts"],
+        "primes": ["ideal"],
+        "minimal_primes": ["ideal"],
+        "primary_parts": ["ideal"],
+        "dimension": ["ideal"],
+    },
+    "duals": {
+        "dual_of": ["ideal", "c"],
+        "broken_up": ["ideal"],
+    },
+    "complexes": {
+        "check_complex": ["v", "facets"],
+        "facets_of": ["v", "faces"],
+        "faces_of": ["facets", "count"],
+        "link": ["facets", "face"],
+        "without": ["facets", "vertex"],
+        "restricted": ["facets", "vertices"],
+        "dual_complex": ["v", "facets"],
+        "ideal_of_complex": ["v", "facets"],
+        "complex_of_ideal": ["ideal"],
+    },
 }
 
 
