@@ -6,6 +6,7 @@ Nothing here uses the program: what it returns is compared with this.
 
 from fractions import Fraction
 from itertools import combinations, product
+from random import Random
 
 
 def box(n, top):
@@ -200,3 +201,104 @@ def holes_by_ranks(facets, prime):
         ranks.append(rank(matrix, prime))
     ranks.append(0)
     return tuple(len(row) - ranks[k] - ranks[k + 1] for k, row in enumerate(rows))
+
+
+# The projective plane with six vertices; and with eight, as eight faces with up to five.
+PLANE = ((0, 1, 2), (0, 1, 3), (0, 2, 4), (0, 3, 5), (0, 4, 5), (1, 2, 5), (1, 3, 4), (1, 4, 5), (2, 3, 4), (2, 3, 5))
+FLAT_PLANE = ((0, 1, 3, 6), (0, 2, 4, 6), (0, 3, 5), (0, 4, 5, 7), (1, 2, 5, 6, 7), (1, 3, 4, 7), (2, 3, 4), (2, 3, 5))
+
+
+def band(outer, inner, times):
+    """Triangles between two rings of three, of which the outer one is gone around so many times."""
+    found = []
+    for k in range(3):
+        steps = [outer[(times * k + j) % 3] for j in range(times + 1)]
+        found.extend((a, b, inner[k]) for a, b in zip(steps, steps[1:]))
+        found.append((steps[-1], inner[k], inner[(k + 1) % 3]))
+    return found
+
+
+def rings(last, times):
+    """Rings a, b, c with b = 2a, c = 2b, and with times c = a, told in the sequence of `last`."""
+    a, b, c = (0, 1, 2), (3, 4, 5), (6, 7, 8)
+    triangles = band(a, b, 2) + band(b, c, 2) + band(c, last, times)
+    return tuple(sorted(tuple(sorted(triangle)) for triangle in triangles))
+
+
+class LikeNothing:
+    """A value of a kind that the program does not know."""
+
+
+CORNER = (2, ((0, 3), (1, 1), (2, 0)))
+
+
+def start(n):
+    """Level 0 of every resolution."""
+    return (((0,) * n,), ((),))
+
+
+# A least resolution of CORNER over 3, and the one by lots.
+LEAST = (
+    start(2),
+    (((0, 3), (1, 1), (2, 0)), (((0, 1),), ((0, 1),), ((0, 1),))),
+    (((1, 3), (2, 1)), (((0, 1), (1, 2)), ((1, 1), (2, 2)))),
+)
+LOTS = (
+    start(2),
+    (((0, 3), (1, 1), (2, 0)), (((0, 1),), ((0, 1),), ((0, 1),))),
+    (((1, 3), (2, 3), (2, 1)), (((0, 2), (1, 1)), ((0, 2), (2, 1)), ((1, 2), (2, 1)))),
+    (((2, 3),), (((0, 1), (1, 2), (2, 1)),)),
+)
+
+
+def six_at_most():
+    """Proper ideals with at most six generators: all of some boxes, and some others."""
+    random = Random(8)
+    found = all_ideals(1, 2) + all_ideals(2, 2) + all_ideals(3, 1)
+    for _ in range(40):
+        n = random.randint(2, 4)
+        monomials = {tuple(random.randint(0, 2) for _ in range(n)) for _ in range(random.randint(1, 6))}
+        found.append(ideal(n, [m for m in monomials if not lies(monomials - {m}, m)]))
+    return [(n, generators) for n, generators in found if (0,) * n not in generators]
+
+
+def dense(columns, height):
+    """Columns of pairs (r, coefficient) as full lists of so many entries."""
+    rows = []
+    for column in columns:
+        entries = dict(column)
+        rows.append([entries.get(r, 0) for r in range(height)])
+    return rows
+
+
+def combined(columns, others, prime):
+    """Full lists: what columns become by a map that the others tell."""
+    width = len(others[0]) if others else 0
+    return [[sum(a * other[t] for a, other in zip(column, others)) % prime for t in range(width)]
+            for column in columns]
+
+
+def lcm(monomials, n):
+    """The least common multiple of monomials in n variables."""
+    return tuple(max([m[k] for m in monomials] + [0]) for k in range(n))
+
+
+def resolves(value, prime, levels):
+    """Whether well-formed levels are a resolution of the ring modulo an ideal: asked at every monomial of a box.
+
+    The box goes as far as the exponents of the generators and the degrees do.
+    """
+    n, generators = value
+    far = lcm(list(generators) + [degree for degrees, _ in levels for degree in degrees], n)
+    full = [dense(columns, len(levels[k - 1][0]) if k else 0) for k, (_, columns) in enumerate(levels)]
+    for lower, upper in zip(full[1:], full[2:]):
+        if any(map(any, combined(upper, lower, prime))):
+            return False
+    for m in divisors(far):
+        there = [[k for k, degree in enumerate(degrees) if under(degree, m)] for degrees, _ in levels]
+        ranks = [rank([full[i][k] for k in there[i]], prime) for i in range(len(levels))] + [0]
+        kernels = [len(there[i]) - ranks[i] for i in range(len(levels))]
+        kernels[0] = int(lies(generators, m))
+        if kernels != ranks[1:]:
+            return False
+    return True

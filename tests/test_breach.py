@@ -5,11 +5,7 @@ import unittest
 from jointneeds.errors import JointError, NotIdeal
 from jointneeds.ideals import breach, check_ideal
 
-from tests.boxes import all_ideals, box, is_plain, stair, under
-
-
-class LikeNothing:
-    """A value of a kind that the program does not know."""
+from tests.boxes import LikeNothing, all_ideals, box, is_plain, stair, under
 
 
 IDEALS = [

@@ -11,18 +11,14 @@ from jointneeds.errors import NotComplex, NotSquarefree, TooMany
 from jointneeds.ideals import breach
 
 from tests.boxes import (
-    all_complexes, all_ideals, error_raised, faces_under, greatest, lies, squarefree, subsets, twice, variable,
+    LikeNothing, all_complexes, all_ideals, error_raised, faces_under, greatest, lies, squarefree, subsets, twice,
+    variable,
 )
 
 # All complexes with few vertices, each with its number of vertices.
 SMALL = [(v, facets) for v in range(5) for facets in all_complexes(v)]
 
 HALF = tuple(combinations(range(12), 6))
-
-
-class LikeNothing:
-    """A value of a kind that the program does not know."""
-
 
 COMPLEXES = [
     (0, ()),

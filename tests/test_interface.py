@@ -59,6 +59,34 @@ INTERFACE = {
         "ideal_of_complex": ["v", "facets"],
         "complex_of_ideal": ["ideal"],
     },
+    "holes": {
+        "holes": ["facets", "prime"],
+        "boundary": ["chain", "prime"],
+        "is_cycle": ["chain", "prime"],
+        "filling": ["facets", "chain", "prime"],
+        "counter": ["facets", "chain", "prime"],
+    },
+    "needs": {
+        "common_multiples": ["ideal"],
+        "needs_by_cuts": ["ideal", "prime"],
+        "needs_by_duals": ["ideal", "prime"],
+        "needs_by_lots": ["ideal", "prime"],
+        "needs_by_multiples": ["ideal", "prime"],
+        "needs_by_restrictions": ["ideal", "prime"],
+    },
+    "resolutions": {
+        "resolution_breach": ["ideal", "prime", "value"],
+        "check_resolution": ["ideal", "prime", "value"],
+        "lots_resolution": ["ideal", "prime"],
+        "is_least": ["levels"],
+        "trimmed": ["levels", "prime"],
+        "least_resolution": ["ideal", "prime"],
+        "needs_of": ["levels"],
+    },
+    "lifts": {
+        "lifted": ["first", "second", "prime"],
+        "is_lifted": ["first", "second", "prime", "value"],
+    },
 }
 
 
