@@ -42,7 +42,8 @@ def table_of(v, faces):
     """
     table = [False] * (1 << v)
     for face in faces:
-        table[sum([1 << k for k in face])] = True
+        place = sum([1 << vertex for vertex in face])
+        table[place] = True
     for vertex in range(v):
         bit = 1 << vertex
         for place in range(1 << v):

@@ -177,7 +177,6 @@ class PartTests(unittest.TestCase):
         self.assertEqual(link(facets, (0, 1)), ((2,),))
         self.assertEqual(link(facets, (1, 3)), ((),))
         self.assertEqual(link(facets, (0, 1, 2)), ((),))
-        # The sequence of the facets need not be that of what is left of them.
         self.assertEqual(link(((0, 1, 3), (1, 2)), (1,)), ((0, 3), (2,)))
         self.assertEqual(link(((0, 3), (1, 2, 3)), (3,)), ((0,), (1, 2)))
         self.assertEqual(link(((0, 1, 5), (0, 2), (1, 2, 3)), (2,)), ((0,), (1, 3)))

@@ -10,7 +10,7 @@ from jointneeds.errors import TooMany
 from jointneeds.ideals import breach
 
 from tests.boxes import (
-    all_ideals, box, error_raised, ideal, lies, placed, plus, squarefree, stair, subsets, twice, variable,
+    all_ideals, box, error_raised, ideal, lcm, lies, placed, plus, squarefree, stair, subsets, twice, variable,
 )
 
 # The numbers of variables and the greatest exponents of the ideals to be tried.
@@ -275,6 +275,34 @@ class PrimaryPartTests(unittest.TestCase):
                           (4, 3, 5)])
         self.assertGreater(len(components(value)), 10)
         self.assertEqual(primary_parts(value), (((0, 1, 2), value),))
+
+
+    # Nine components of the one with 5 make 56 generators, and of the other one 70.
+    HEAD = ((0, 0, 0, 0, 5, 1, 7, 0), (0, 0, 0, 0, 7, 0, 0, 0), (0, 0, 0, 7, 0, 0, 0, 0), (0, 0, 3, 0, 0, 0, 4, 4),
+            (0, 3, 0, 4, 5, 0, 0, 3), (0, 4, 1, 2, 2, 0, 1, 2), (0, 6, 0, 0, 0, 0, 0, 6), (0, 6, 2, 1, 1, 0, 2, 0))
+    TAIL = ((1, 0, 7, 5, 0, 4, 0, 0),)
+    WITHIN = (8, HEAD + ((0, 7, 0, 0, 0, 0, 0, 2),) + TAIL)
+    BEYOND = (8, HEAD + ((0, 7, 0, 0, 0, 0, 0, 5),) + TAIL)
+
+    def generators_of(self, value):
+        """For each prime the least generators of the meet of its components, one component after another."""
+        rows = {}
+        for part in components(value):
+            powers = [tuple(entry if j == k else 0 for j in range(8)) for k, entry in enumerate(part) if entry]
+            made = {lcm([m, power], 8) for m in rows.get(support(part), [(0,) * 8]) for power in powers}
+            rows[support(part)] = [m for m in sorted(made) if not lies(made - {m}, m)]
+        return rows
+
+    def test_more_than_sixty_generators(self):
+        rows = self.generators_of(self.WITHIN)
+        self.assertEqual(max(map(len, rows.values())), 56)
+        self.assertEqual(primary_parts(self.WITHIN), tuple((prime, (8, tuple(rows[prime]))) for prime in sorted(rows)))
+        rows = self.generators_of(self.BEYOND)
+        self.assertEqual(max(map(len, rows.values())), 70)
+        error_raised(self, TooMany, {"limit": 60}, primary_parts, self.BEYOND)
+        # The other functions return no ideals.
+        self.assertEqual(primes(self.BEYOND), tuple(sorted(rows)))
+        self.assertEqual(dimension(self.BEYOND), 5)
 
 
 class SmallTests(unittest.TestCase):
