@@ -47,6 +47,19 @@ def one_of(n):
     return (0,) * n
 
 
+def of_variables(n, variables):
+    """The product of some variables, as a monomial in n variables."""
+    return tuple([int(k in variables) for k in range(n)])
+
+
+def all_of_degree(n, degree):
+    """All monomials of a degree in n variables, ascending."""
+    heads = [((), degree)]
+    for _ in range(n - 1):
+        heads = [(head + (k,), left - k) for head, left in heads for k in range(left + 1)]
+    return [head + (left,) for head, left in heads]
+
+
 def is_whole(value):
     """Whether any value is an integer; True and False are none."""
     return isinstance(value, int) and not isinstance(value, bool)

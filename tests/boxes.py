@@ -1,12 +1,14 @@
 """Helpers that decide about ideals by asking of every monomial of a box.
 
 Of complexes they ask of every set of vertices, of maps of every entry.
-Nothing here uses the program: what it returns is compared with this.
+Nothing here uses the program but its errors: what it returns is compared with this.
 """
 
 from fractions import Fraction
 from itertools import combinations, product
 from random import Random
+
+from jointneeds.errors import TooMany
 
 
 def box(n, top):
@@ -302,3 +304,51 @@ def resolves(value, prime, levels):
         if kernels != ranks[1:]:
             return False
     return True
+
+
+def of_degree(n, degree):
+    """All monomials of a degree in n variables, ascending."""
+    return [m for m in product(range(degree + 1), repeat=n) if sum(m) == degree]
+
+
+def signs_of_lots(value):
+    """The sums of the signs of the sets of generators, at their least common multiples."""
+    n, generators = value
+    sums = {}
+    for lot in subsets(range(len(generators))):
+        m = lcm([generators[k] for k in lot], n)
+        sums[m] = sums.get(m, 0) + (-1) ** len(lot)
+    return {m: number for m, number in sums.items() if number}
+
+
+def small_wanted(test, call, *more):
+    """Check that a call raises TooMany(8), and then TooMany(10), for ideals that are not small."""
+    for value in ((9, ()), (9, ((0,) * 9,)), (12, ((1,) * 12,)), ideal(9, placed(9, (0, 1), stair(10))),
+                  (12, tuple(variable(12, k) for k in range(11, -1, -1)))):
+        error_raised(test, TooMany, {"limit": 8}, call, value, *more)
+    for value in ((2, stair(10)), (2, stair(59)), ideal(8, placed(8, (0, 7), stair(10)))):
+        error_raised(test, TooMany, {"limit": 10}, call, value, *more)
+
+
+def needs_of_steps(value, variables_of):
+    """The list of needs with one basis element for each generator and each choice of its variables."""
+    n, generators = value
+    sums = {(0, (0,) * n): 1}
+    for g in generators:
+        for choice in subsets(variables_of(g)):
+            place = (len(choice) + 1, plus(g, tuple(int(k in choice) for k in range(n))))
+            sums[place] = sums.get(place, 0) + 1
+    return tuple(sorted((i, m, number) for (i, m), number in sums.items()))
+
+
+def ahead_of_last(monomial):
+    """The variables less than the greatest one in a monomial."""
+    return range(max(k for k, exponent in enumerate(monomial) if exponent))
+
+
+def kept(test, call, *arguments):
+    """Check that a call changes none of its lists; return what it returns."""
+    before = repr(arguments)
+    result = call(*arguments)
+    test.assertEqual(repr(arguments), before)
+    return result

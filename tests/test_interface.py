@@ -87,6 +87,39 @@ INTERFACE = {
         "lifted": ["first", "second", "prime"],
         "is_lifted": ["first", "second", "prime", "value"],
     },
+    "counts": {
+        "numerator": ["ideal"],
+        "numerator_by_splitting": ["ideal"],
+        "signs": ["ideal"],
+        "left_over": ["ideal", "degree"],
+        "count_left": ["ideal", "degree"],
+        "graded_numerator": ["ideal"],
+        "left_polynomial": ["ideal"],
+        "settled_from": ["ideal"],
+        "multiplicity": ["ideal"],
+    },
+    "growth": {
+        "binomial_row": ["a", "d"],
+        "grown": ["a", "d"],
+        "growth_breach": ["n", "row"],
+        "first_words": ["n", "row"],
+        "first_words_like": ["ideal", "top"],
+    },
+    "shapes": {
+        "length_of": ["ideal", "prime"],
+        "depth_of": ["ideal", "prime"],
+        "breadth_of": ["ideal", "prime"],
+        "is_balanced": ["ideal", "prime"],
+        "is_straight": ["ideal", "prime"],
+        "balance_breach": ["facets", "prime"],
+    },
+    "listings": {
+        "quotient_breach": ["ideal", "listing"],
+        "quotient_listing": ["ideal"],
+        "needs_by_quotients": ["ideal", "listing"],
+        "shelling_breach": ["facets", "listing"],
+        "shelling": ["facets"],
+    },
 }
 
 

@@ -13,8 +13,8 @@ from jointneeds.needs import (
 )
 
 from tests.boxes import (
-    FLAT_PLANE, PLANE, all_ideals, error_raised, holes_by_ranks, ideal, lcm, placed, squarefree, stair, subsets,
-    twice, under, variable,
+    FLAT_PLANE, PLANE, all_ideals, error_raised, holes_by_ranks, ideal, lcm, placed, signs_of_lots, squarefree,
+    stair, subsets, twice, under, variable,
 )
 
 PRIMES = (0, 2, 3, 5, 7)
@@ -83,16 +83,6 @@ def needs_without_the_program(value, prime):
             if number:
                 found.append((k + 1, m, number))
     return tuple(sorted(found))
-
-
-def signs_of_lots(value):
-    """The sums of the signs of the sets of generators, at their least common multiples."""
-    n, generators = value
-    sums = {}
-    for lot in subsets(range(len(generators))):
-        m = lcm([generators[k] for k in lot], n)
-        sums[m] = sums.get(m, 0) + (-1) ** len(lot)
-    return {m: number for m, number in sums.items() if number}
 
 
 def some_ideals():
