@@ -210,6 +210,10 @@ PLANE = ((0, 1, 2), (0, 1, 3), (0, 2, 4), (0, 3, 5), (0, 4, 5), (1, 2, 5), (1, 3
 FLAT_PLANE = ((0, 1, 3, 6), (0, 2, 4, 6), (0, 3, 5), (0, 4, 5, 7), (1, 2, 5, 6, 7), (1, 3, 4, 7), (2, 3, 4), (2, 3, 5))
 
 
+# The ideal whose sets of generators below the product of all variables make the plane of eight vertices.
+FLAT = ideal(8, [tuple(int(k not in facet) for facet in FLAT_PLANE) for k in range(8)])
+
+
 def band(outer, inner, times):
     """Triangles between two rings of three, of which the outer one is gone around so many times."""
     found = []

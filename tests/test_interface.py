@@ -120,6 +120,44 @@ INTERFACE = {
         "shelling_breach": ["facets", "listing"],
         "shelling": ["facets"],
     },
+    "stable": {
+        "stable_breach": ["ideal"],
+        "strong_breach": ["ideal"],
+        "stable_hull": ["n", "monomials"],
+        "needs_by_steps": ["ideal"],
+    },
+    "graphs": {
+        "check_graph": ["value"],
+        "edge_ideal": ["graph"],
+        "cover_ideal": ["graph"],
+        "complement": ["graph"],
+        "ring_paper": ["graph"],
+        "is_ring_paper": ["graph", "value"],
+        "two_sides": ["graph"],
+        "least_cover": ["graph"],
+        "greatest_matching": ["graph"],
+    },
+    "stairs": {
+        "stairs": ["ideal"],
+        "closed_up": ["ideal"],
+        "hull_corners": ["ideal"],
+    },
+    "rising": {
+        "rising_totals": ["ideal", "prime"],
+        "tight_listing": ["ideal", "prime"],
+    },
+}
+
+
+RISING = {
+    "__init__": ["self", "n", "prime"],
+    "add": ["self", "monomial"],
+    "added": ["self"],
+    "take_back": ["self"],
+    "rest": ["self"],
+    "running_numerator": ["self"],
+    "cone": ["self"],
+    "is_tight": ["self"],
 }
 
 
@@ -134,6 +172,17 @@ class InterfaceTests(unittest.TestCase):
                     self.assertTrue(inspect.isfunction(function))
                     self.assertEqual(function.__module__, f"jointneeds.{file}")
                     self.assertEqual(list(inspect.signature(function).parameters), parameters)
+
+    def test_the_class(self):
+        thing = importlib.import_module("jointneeds.rising").Rising
+        self.assertTrue(inspect.isclass(thing))
+        self.assertEqual(thing.__module__, "jointneeds.rising")
+        self.assertEqual(thing(3, 2).ideal, (3, ()))
+        for name, parameters in RISING.items():
+            with self.subTest(name):
+                method = vars(thing)[name]
+                self.assertTrue(inspect.isfunction(method))
+                self.assertEqual(list(inspect.signature(method).parameters), parameters)
 
 
 if __name__ == "__main__":

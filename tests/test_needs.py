@@ -13,7 +13,7 @@ from jointneeds.needs import (
 )
 
 from tests.boxes import (
-    FLAT_PLANE, PLANE, all_ideals, error_raised, holes_by_ranks, ideal, lcm, placed, signs_of_lots, squarefree,
+    FLAT, PLANE, all_ideals, error_raised, holes_by_ranks, ideal, lcm, placed, signs_of_lots, squarefree,
     stair, subsets, twice, under, variable,
 )
 
@@ -38,9 +38,6 @@ MORE_9 = (8, ((0, 0, 0, 0, 0, 0, 1, 1), (0, 0, 0, 0, 2, 3, 3, 0), (0, 0, 0, 2, 0
 
 SEVEN = tuple(variable(7, k) for k in range(6, -1, -1))
 EIGHT = tuple(variable(8, k) for k in range(7, -1, -1))
-
-# The ideal whose sets of generators below the product of all variables make the plane.
-FLAT = ideal(8, [tuple(int(k not in facet) for facet in FLAT_PLANE) for k in range(8)])
 
 # Ideals with their lists of needs, which are the same over every prime.
 LISTS = [
