@@ -197,6 +197,6 @@ def greatest_matching(graph):
     best = [0]
     for v, around in enumerate(near):
         for others in range(1 << v):
-            matched = [best[others - (1 << w)] + 1 for w in around if w < v and others & (1 << w) > 0]
+            matched = [best[others - (1 << w)] + 1 for w in around if others & (1 << w) > 0]
             best.append(max([best[others]] + matched))
     return best[-1]

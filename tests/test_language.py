@@ -42,6 +42,17 @@ SPECIAL_METHODS = """
 __init__ __eq__ __repr__ __str__ __len__ __enter__ __exit__ __call__ __iter__
 """.split()
 
+BUILTIN_METHODS = """
+append clear copy count endswith extend find get index insert isalnum isalpha isdigit islower isspace
+isupper items join keys ljust lower lstrip partition pop remove replace reverse rfind rjust rpartition
+rsplit rstrip setdefault split splitlines startswith strip update upper values zfill bit_length
+""".split()
+
+KEYWORDS = {
+    "sorted": {"key", "reverse"}, "min": {"key", "default"}, "max": {"key", "default"}, "sum": {"start"},
+    "enumerate": {"start"}, "zip": {"strict"},
+}
+
 BARRED_NODES = (
     ast.AsyncFor, ast.AsyncFunctionDef, ast.AsyncWith, ast.Await, ast.Div, ast.Global, ast.Import,
     ast.MatMult,
@@ -190,6 +201,65 @@ class NameTests(unittest.TestCase):
                     if token.type in (tokenize.NAME, tokenize.STRING) and not is_docstring:
                         words = re.findall(r"\w+", token.string)
                         self.assertFalse(set(words) & set(BARRED_WORDS), (path.name, token.start))
+
+
+def methods_of(tree):
+    """The names of the methods that the classes of a file define."""
+    for node in ast.walk(tree):
+        if isinstance(node, ast.ClassDef):
+            yield from (part.name for part in node.body if isinstance(part, ast.FunctionDef))
+
+
+class CallTests(unittest.TestCase):
+
+    def calls(self):
+        for path in FILES:
+            for node in ast.walk(tree_of(path)):
+                if isinstance(node, ast.Call):
+                    yield path, node
+
+    def test_only_some_methods_are_called(self):
+        own = {name for path in FILES for name in methods_of(tree_of(path))}
+        for path, node in self.calls():
+            if isinstance(node.func, ast.Attribute):
+                with self.subTest(file=path.name, line=node.lineno):
+                    self.assertIn(node.func.attr, own | set(BUILTIN_METHODS))
+
+    def test_add_is_called_off_objects_of_the_package_only(self):
+        """A class has a method of this name, so no set may call it (L24)."""
+        for path, node in self.calls():
+            if isinstance(node.func, ast.Attribute) and node.func.attr == "add":
+                self.assertEqual((path.name, node.func.value.id), ("rising.py", "rising"))
+
+    def test_keywords_of_builtins(self):
+        for path, node in self.calls():
+            if isinstance(node.func, ast.Name) and hasattr(builtins, node.func.id):
+                with self.subTest(file=path.name, line=node.lineno):
+                    names = {keyword.arg for keyword in node.keywords}
+                    self.assertLessEqual(names, KEYWORDS.get(node.func.id, set()))
+
+    def test_nothing_of_the_library_is_kept_or_passed_on(self):
+        for path in FILES:
+            tree = tree_of(path)
+            called = {id(node.func) for node in ast.walk(tree) if isinstance(node, ast.Call)}
+            names = {
+                alias.name for node in tree.body if isinstance(node, ast.ImportFrom) and node.module in LIBRARY
+                for alias in node.names
+            }
+            for node in ast.walk(tree):
+                if isinstance(node, ast.Name) and node.id in names:
+                    self.assertIn(id(node), called, (path.name, node.lineno))
+
+    def test_generator_expressions_and_yields(self):
+        for path in FILES:
+            for node in ast.walk(tree_of(path)):
+                self.assertNotIsInstance(node, (ast.GeneratorExp, ast.Yield, ast.YieldFrom, ast.Try, ast.With))
+
+    def test_the_name_of_what_is_not_needed_is_never_read(self):
+        for path in FILES:
+            for node in ast.walk(tree_of(path)):
+                if isinstance(node, ast.Name) and node.id == "_":
+                    self.assertIsInstance(node.ctx, ast.Store, (path.name, node.lineno))
 
 
 class SyntaxTests(unittest.TestCase):
